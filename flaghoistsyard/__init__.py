@@ -1,0 +1,1 @@
+"""Signals by flags: hoists, messages put into hoists, and a code book."""
