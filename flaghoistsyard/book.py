@@ -1,4 +1,4 @@
-"""The code book: read from a text, written, and used to read messages.
+"""The code book: read from a text, written, and the signs that its numbers stand for.
 
 A book is a list of entries in their order; an entry is a tuple of its word (a tuple of signs) and its number.
 """
@@ -94,15 +94,14 @@ def written(book):
     return text
 
 
-# How many readings there are of what stands from each place of the message on. No two entries have one word,
-# so at a place each length of a word is that of one entry at most.
-def reading_counts(book, message):
+# None where one of the numbers is no entry's.
+def signs_of(book, numbers):
     words = {}
-    for entry in book:
-        words[entry[0]] = True
-    counts = [0] * len(message) + [1]
-    for start in range(len(message) - 1, -1, -1):
-        for end in range(start + 1, min(start + LONGEST_WORD, len(message)) + 1):
-            if tuple(message[start:end]) in words:
-                counts[start] += counts[end]
-    return counts
+    for word, number in book:
+        words[number] = word
+    signs = []
+    for number in numbers:
+        if number not in words:
+            return None
+        signs.extend(words[number])
+    return signs

@@ -9,6 +9,13 @@ HOISTS = 3
 LOAD = 4
 TEXT = 5
 WAYS = 6
+NTH = 7
+SAY = 8
+DOUBLE = 9
+PREFIX = 10
+MEANING = 11
+SIGNAL = 12
+ENTRIES = 13
 
 
 # Goes through the list of calls number by number; a row is given back as a copy.
@@ -47,6 +54,21 @@ def answer(yard, reader):
         return yard.text()
     if call == WAYS:
         return yard.ways(reader.row())
+    if call == NTH:
+        k = reader.number()
+        return yard.nth(k, reader.row())
+    if call == SAY:
+        return yard.say(reader.row())
+    if call == DOUBLE:
+        return yard.double()
+    if call == PREFIX:
+        return yard.prefix()
+    if call == MEANING:
+        return yard.meaning(reader.number())
+    if call == SIGNAL:
+        return yard.signal(reader.row())
+    if call == ENTRIES:
+        return yard.entries()
     raise ValueError("no such call")
 
 

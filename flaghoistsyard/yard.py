@@ -1,13 +1,18 @@
 """What the calls work on, the sets of flags and the book, and what each call answers."""
 
-from flaghoistsyard.book import WrongLine, book_of, reading_counts, written
+from flaghoistsyard.book import WrongLine, book_of, signs_of, written
 from flaghoistsyard.hoisting import MOST_FLAGS, first_hoist, hoists_of, is_hoist, signs_said
+from flaghoistsyard.readings import first_misread, is_prefix_free, nth_reading, reading_counts
 from flaghoistsyard.signs import all_bytes, all_signs
 
 MOST_SETS = 3
+LONGEST_SIGNAL = 60
 WRONG_NUMBER = -1
 NO_HOIST = -2
 NOTHING_SAYS_IT = -3
+NO_READING = -4
+NO_ENTRY = -5
+TOO_LONG = -6
 LINE_REFUSAL = -1000
 
 
@@ -71,3 +76,42 @@ class Yard:
         if not all_signs(message):
             return [WRONG_NUMBER]
         return [reading_counts(self.book, message)[0]]
+
+    def nth(self, k, message):
+        if not all_signs(message):
+            return [WRONG_NUMBER]
+        reading = nth_reading(self.book, message, k)
+        if reading is None:
+            return [NO_READING]
+        return row(reading)
+
+    def say(self, numbers):
+        signs = signs_of(self.book, numbers)
+        if signs is None:
+            return [NO_ENTRY]
+        return row(signs)
+
+    def double(self):
+        message = first_misread(self.book)
+        if message is None:
+            return [0]
+        first = nth_reading(self.book, message, 0)
+        second = nth_reading(self.book, message, 1)
+        return [1] + row(list(message)) + row(first) + row(second)
+
+    def prefix(self):
+        return [1 if is_prefix_free(self.book) else 0]
+
+    def meaning(self, number):
+        return self.say([number])
+
+    def signal(self, numbers):
+        message = signs_of(self.book, numbers)
+        if message is None:
+            return [NO_ENTRY]
+        if len(message) > LONGEST_SIGNAL:
+            return [TOO_LONG]
+        return self.ways(message) + self.hoists(message)
+
+    def entries(self):
+        return [self.set_count] + row([entry[1] for entry in self.book])

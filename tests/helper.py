@@ -44,6 +44,34 @@ def ways(message):
     return with_row(6, message)
 
 
+def nth(k, message):
+    return [7, k] + with_row(7, message)[1:]
+
+
+def say(numbers):
+    return with_row(8, numbers)
+
+
+def double():
+    return [9]
+
+
+def prefix():
+    return [10]
+
+
+def meaning(n):
+    return [11, n]
+
+
+def signal(numbers):
+    return with_row(12, numbers)
+
+
+def entries():
+    return [13]
+
+
 def joined(calls):
     return [number for call in calls for number in call]
 
@@ -85,6 +113,19 @@ def row(numbers):
 def rows(*several):
     """Several rows as they are answered, with how many there are."""
     return [len(several)] + joined([row(one) for one in several])
+
+
+def hoists_told(answer):
+    """The hoists that stand in an answer of the call hoists."""
+    told = []
+    place = 1
+    while place < len(answer):
+        end = place + 1 + answer[place]
+        told.append(answer[place + 1:end])
+        place = end
+    if len(told) != answer[0]:
+        raise AssertionError(f"not as many hoists as told: {answer}")
+    return told
 
 
 def slow_said(flags):
@@ -144,27 +185,59 @@ def slow_parts(message, first):
     return best[1]
 
 
+def book_of_words(words):
+    """A book of the words, numbered from 0 on."""
+    return "".join(f"{word} {number}\n" for number, word in enumerate(words))
+
+
+def slow_readings(words, message):
+    """All readings of the message by such a book, in their order."""
+    if message == "":
+        return [[]]
+    return [
+        [number] + rest
+        for number, word in enumerate(words) if message.startswith(word)
+        for rest in slow_readings(words, message[len(word):])
+    ]
+
+
+def slow_misread(words, longest):
+    """The first message that can be misread, of all that have so many signs at most, or None."""
+    signs = sorted(set("".join(words)))
+    for length in range(longest + 1):
+        for one in itertools.product(signs, repeat=length):
+            if len(slow_readings(words, "".join(one))) > 1:
+                return "".join(one)
+    return None
+
+
 # Calls that tell whether there are 1, 2 or 3 sets and what the book is, and states to ask them in.
-PROBES = [text(), read("AA"), read("AAA"), make("A1A1A"), make("A1A1A1A"), ways("AB1")]
+PROBES = [text(), entries(), read("AA"), read("AAA"), make("A1A1A"), make("A1A1A1A"), ways("AB1")]
 STATES = [
-    ([], [row(""), [-2], [-2], [-3], [-3], [0]]),
+    ([], [row(""), [1, 0], [-2], [-2], [-3], [-3], [0]]),
     (
         [sets(2), load("B1 7\nAB 20\nA 0\n1 5")],
-        [row("B1 7\nAB 20\nA 0\n1 5\n"), row("AA"), [-2], [-3], [-3], [2]],
+        [row("B1 7\nAB 20\nA 0\n1 5\n"), [2, 4, 7, 20, 0, 5], row("AA"), [-2], [-3], [-3], [2]],
     ),
     (
         [sets(3), load("AB1 9999 # one\n")],
-        [row("AB1 9999\n"), row("AA"), row("AAA"), row("A1A1A"), [-3], [1]],
+        [row("AB1 9999\n"), [3, 1, 9999], row("AA"), row("AAA"), row("A1A1A"), [-3], [1]],
     ),
 ]
 
 
+def assert_nothing_changed_behind(case, before, call, *told):
+    """The call answers as told, if that is said, and the probes behind it answer as those ahead of it."""
+    got = answered(*before, *PROBES, call, *PROBES, call)[len(before):]
+    probed = got[:len(PROBES)]
+    case.assertEqual(got[len(PROBES) + 1:-1], probed)
+    case.assertEqual(got[len(PROBES)], got[-1])
+    if told:
+        case.assertEqual(got[-1], told[0])
+    return probed
+
+
 def assert_nothing_changed(case, call, *told):
-    """The call answers as told, if that is said, and the calls behind it answer as those ahead of it."""
+    """The same in each of the states."""
     for before, probed in STATES:
-        got = answered(*before, *PROBES, call, *PROBES, call)[len(before):]
-        case.assertEqual(got[:len(PROBES)], probed)
-        case.assertEqual(got[len(PROBES) + 1:-1], probed)
-        case.assertEqual(got[len(PROBES)], got[-1])
-        if told:
-            case.assertEqual(got[-1], told[0])
+        case.assertEqual(assert_nothing_changed_behind(case, before, call, *told), probed)

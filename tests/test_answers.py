@@ -4,7 +4,8 @@ import unittest
 
 from flaghoistsyard.signals import answers
 from tests.helper import (
-    answered, codes, hoists, joined, load, make, read, row, rows, sets, text, told_apart, ways,
+    GREATEST, LEAST, answered, codes, double, entries, hoists, joined, load, make, meaning, nth, prefix, read, row,
+    rows, say, sets, signal, text, told_apart, ways,
 )
 
 
@@ -22,11 +23,17 @@ for name in ("append", "extend", "insert", "pop", "remove", "clear", "sort", "re
 
 EVERY_CALL = [
     sets(2), read("AAx"), make("AAA"), hoists("A1A1A1"), load("A 1 # one\nB 2\nAB 3\n"), text(), ways("AB"),
-    sets(0), read("a"), make(""), hoists("a"), load("A 1\nB"), ways([-1]), text(), read("AA"), ways(""), load(""),
+    nth(1, "AB"), say([3, 2]), double(), prefix(), meaning(3), signal([3, 1]), entries(),
+    nth(2, "AB"), nth(0, "b"), say([4]), meaning(0), signal([1, 0]), signal([3] * 31),
+    sets(0), read("a"), make(""), hoists("a"), load("A 1\nB"), ways([-1]), text(), read("AA"), ways(""), entries(),
+    load(""), double(), prefix(), entries(),
 ]
 EVERY_ANSWER = [
     [0], row("AAA"), row("AAx"), rows("A1A1", "A1"), [3], row("A 1\nB 2\nAB 3\n"), [2],
-    [-1], [-2], [-1], [-1], [-1002], [-1], row("A 1\nB 2\nAB 3\n"), row("AA"), [1], [0],
+    row([3]), row("ABB"), [1] + row("AB") + row([1, 2]) + row([3]), [0], row("AB"), [2] + rows("ABA"), [2, 3, 1, 2, 3],
+    [-4], [-1], [-5], [-5], [-5], [-6],
+    [-1], [-2], [-1], [-1], [-1002], [-1], row("A 1\nB 2\nAB 3\n"), row("AA"), [1], [2, 3, 1, 2, 3],
+    [0], [0], [1], [2, 0],
 ]
 
 
@@ -43,6 +50,37 @@ class Answers(unittest.TestCase):
         self.assertEqual(answers([5]), [1, 0])
         self.assertEqual(answers([6, 1, 65, 6, 0]), [1, 0, 1, 1])
         self.assertEqual(answers([4, 1, 65]), [1, -1001])
+        self.assertEqual(answers([7, 0, 0]), [1, 0])
+        self.assertEqual(answers([7, 0, 1, 65]), [1, -4])
+        self.assertEqual(answers([8, 0]), [1, 0])
+        self.assertEqual(answers([9]), [1, 0])
+        self.assertEqual(answers([10]), [1, 1])
+        self.assertEqual(answers([11, 1]), [1, -5])
+        self.assertEqual(answers([12, 0]), [2, 1, 0])
+        self.assertEqual(answers([13]), [2, 1, 0])
+
+    def test_the_example_number_by_number(self):
+        book = [4, 13] + codes("A 1\nB 2\nAB 3\n")
+        self.assertEqual(answers(book + [7, 0, 2, 65, 66]), [1, 3, 3, 2, 1, 2])
+        self.assertEqual(answers(book + [7, 1, 2, 65, 66, 7, 2, 2, 65, 66]), [1, 3, 2, 1, 3, 1, -4])
+        self.assertEqual(answers(book + [8, 2, 3, 1]), [1, 3, 4, 3, 65, 66, 65])
+        self.assertEqual(answers(book + [9]), [1, 3, 9, 1, 2, 65, 66, 2, 1, 2, 1, 3])
+        self.assertEqual(answers(book + [10]), [1, 3, 1, 0])
+        self.assertEqual(answers(book + [11, 3]), [1, 3, 3, 2, 65, 66])
+        self.assertEqual(answers(book + [12, 2, 1, 2]), [1, 3, 5, 2, 1, 2, 65, 66])
+        self.assertEqual(answers(book + [13]), [1, 3, 5, 1, 3, 1, 2, 3])
+
+    def test_the_least_and_the_greatest_numbers(self):
+        told = answered(
+            *[call for number in (LEAST, GREATEST) for call in (
+                sets(number), read([number]), make([number]), hoists([number]), load([number]), ways([number]),
+                nth(number, ""), nth(0, [number]), nth(number, [number]),
+                say([number]), meaning(number), signal([number]),
+            )],
+            text(), entries(),
+        )
+        refusals = [[-1]] * 6 + [[-4], [-1], [-1]] + [[-5]] * 3
+        self.assertEqual(told, refusals + refusals + [row(""), [1, 0]])
 
     def test_every_call_behind_another(self):
         self.assertEqual(answered(*EVERY_CALL), EVERY_ANSWER)
@@ -52,11 +90,17 @@ class Answers(unittest.TestCase):
             [answers(call) for call in (read("A"), make("A"), hoists("A"), load("A 1"), text(), ways("A"))],
             [[2, 1, 65], [2, 1, 65], [3, 1, 1, 65], [1, 1], [1, 0], [1, 0]],
         )
+        calls = (sets(3), nth(0, ""), say([]), double(), prefix(), meaning(0), signal([]), entries())
+        self.assertEqual(
+            [answers(call) for call in calls],
+            [[1, 0], [1, 0], [1, 0], [1, 0], [1, 1], [1, -5], [2, 1, 0], [2, 1, 0]],
+        )
 
     def test_numbers_within_rows_are_not_taken_for_calls(self):
         self.assertEqual(
-            answered(read([0, 2]), read([5, 5, 5]), load([4, 0]), ways([6, 0]), read("AA")),
-            [[-2], [-2], [-1001], [-1], [-2]],
+            answered(read([0, 2]), read([5, 5, 5]), load([4, 0]), ways([6, 0]), nth(9, [9]), nth(0, [13, 13]),
+                     say([9, 9]), signal([13]), meaning(9), read("AA")),
+            [[-2], [-2], [-1001], [-1], [-1], [-1], [-5], [-5], [-5], [-2]],
         )
 
     def test_a_hundred_calls(self):

@@ -5,24 +5,11 @@ import random
 import unittest
 
 from tests.helper import (
-    GREATEST, LEAST, answered, answered_in_lines, assert_nothing_changed, codes, hoists, read, row, rows, sets,
-    slow_hoists, slow_parts,
+    GREATEST, LEAST, answered, answered_in_lines, assert_nothing_changed, codes, hoists, hoists_told, read, row, rows,
+    sets, slow_hoists, slow_parts,
 )
 
 SIXTY = "ABCDEFGHIJKLMNOPQRSTUVWXYZ0123456789ABCDEFGHIJKLMNOPQRSTUVWX"
-
-
-def hoists_told(answer):
-    """The hoists that stand in an answer of the call hoists."""
-    told = []
-    place = 1
-    while place < len(answer):
-        end = place + 1 + answer[place]
-        told.append(answer[place + 1:end])
-        place = end
-    if len(told) != answer[0]:
-        raise AssertionError(f"not as many hoists as told: {answer}")
-    return told
 
 
 class Parting(unittest.TestCase):

@@ -3,14 +3,9 @@
 import itertools
 import unittest
 
-from tests.helper import GREATEST, LEAST, answered, answered_in_lines, assert_nothing_changed, load, ways
-
-
-def slow_ways(words, message):
-    """How many rows of words are the message, word by word from its beginning."""
-    if message == "":
-        return 1
-    return sum(slow_ways(words, message[len(word):]) for word in words if message.startswith(word))
+from tests.helper import (
+    GREATEST, LEAST, answered, answered_in_lines, assert_nothing_changed, book_of_words, load, slow_readings, ways,
+)
 
 
 class Ways(unittest.TestCase):
@@ -48,10 +43,9 @@ class Ways(unittest.TestCase):
 
     def test_against_slow_counting(self):
         for words in (["A", "B", "AB"], ["AB", "A", "BA", "1"], ["A1", "1A", "A", "11"], ["ABAB1A", "AB", "A", "B1A"]):
-            book = "\n".join(f"{word} {number}" for number, word in enumerate(words))
             messages = ["".join(one) for length in range(7) for one in itertools.product("AB1", repeat=length)]
-            told = answered_in_lines([load(book)], [ways(message) for message in messages])
-            self.assertEqual(told, [[slow_ways(words, message)] for message in messages])
+            told = answered_in_lines([load(book_of_words(words))], [ways(message) for message in messages])
+            self.assertEqual(told, [[len(slow_readings(words, message))] for message in messages])
 
     def test_the_book_of_now_counts(self):
         self.assertEqual(
